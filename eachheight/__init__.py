@@ -1,0 +1,1 @@
+"""Eachheight: crash-safe layers, checked one at a time."""
