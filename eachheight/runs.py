@@ -7,21 +7,29 @@ START = (0, ())
 
 def outcomes_at(spec, config, op, arguments):
     """Return (reply, results, next config) of all outcomes of the operation, ascending."""
+    return tuple(sorted(set(listed_outcomes(spec, config, op, arguments))))
+
+
+def listed_outcomes(spec, config, op, arguments):
+    """Return (reply, results, next config) of each outcome of the operation, in the order of the case."""
     mode, values = config
     held = values + arguments
     case = spec[2][mode][operation_index(spec, op)]
-    outcomes = [
+    return [
         (reply, _picked(held, results), (after, _picked(held, kept)))
         for reply, results, after, kept in case
     ]
-    return tuple(sorted(set(outcomes)))
 
 
 def crash_results(spec, config):
     """Return the configs to which a crash may lead, ascending."""
+    return tuple(sorted(set(listed_crashes(spec, config))))
+
+
+def listed_crashes(spec, config):
+    """Return the config to which each crash of the mode leads, in the order of the spec."""
     mode, values = config
-    results = [(after, _picked(values, kept)) for after, kept in spec[3][mode]]
-    return tuple(sorted(set(results)))
+    return [(after, _picked(values, kept)) for after, kept in spec[3][mode]]
 
 
 def possible_configs(spec, history):
