@@ -1,6 +1,6 @@
 """Certificates of layers (point 12)."""
 
-from eachheight.endings import states_after
+from eachheight.endings import steps_by_state
 from eachheight.specs import is_ascending
 from eachheight.states import initial_state, is_state
 
@@ -11,31 +11,45 @@ def certificate_holds(layer, thing):
         return False
     if not is_ascending(thing) or initial_state(layer) not in thing:
         return False
-    covers = _covers(thing)
-    covered = {state: True for state in thing}
+    cover = Cover()
+    for state in sorted(thing, key=_candidate_count):
+        cover.include(state)
     for state in thing:
-        for after in states_after(layer, state):
-            # A bad step leaves no candidate, so no state covers what it leads to.
-            if after not in covered and not _is_covered(covers, after):
-                return False
-            covered[after] = True
+        # A bad step leaves no candidate, so no state covers what it leads to.
+        if not all([cover.covers(after) for after in steps_by_state(layer, state)]):
+            return False
     return True
 
 
-def _covers(states):
-    """Return the candidates of the states by phase and configs, those with the fewest first."""
-    covers = {}
-    for phase, configs, candidates in sorted(states, key=lambda state: len(state[2])):
-        covers.setdefault((phase, configs), []).append(candidates)
-    return covers
+def _candidate_count(state):
+    return len(state[2])
 
 
-def _is_covered(covers, state):
-    phase, configs, candidates = state
-    held = {candidate: True for candidate in candidates}
-    for cover in covers.get((phase, configs), []):
-        if len(cover) > len(held):
-            return False
-        if all([candidate in held for candidate in cover]):
+class Cover:
+    """States, and whether one of them covers the state after a step.
+
+    It does if it has the same phase and configs, and some of the same candidates, but no other ones.
+    """
+
+    def __init__(self):
+        self.candidates = {}
+        self.known = {}
+
+    def include(self, state):
+        """Add a state."""
+        phase, configs, candidates = state
+        self.candidates.setdefault((phase, configs), []).append(candidates)
+        self.known[state] = True
+
+    def covers(self, state):
+        """Return whether one of the states covers this one."""
+        if state in self.known:
             return True
-    return False
+        phase, configs, candidates = state
+        held = {candidate: True for candidate in candidates}
+        for fewer in self.candidates.get((phase, configs), []):
+            if len(fewer) <= len(held) and all([candidate in held for candidate in fewer]):
+                # What is covered can be reached again and again. It may as well cover others.
+                self.known[state] = True
+                return True
+        return False

@@ -4,8 +4,9 @@ An ending is (event, phase, configs): the event of the upper spec, and the phase
 the lower specs after the step, ahead of the renumbering. All that a step does is in its ending.
 """
 
+from eachheight.crashing import settled_configs, ways_to_crash
 from eachheight.moments import UNHANDLED, distinct_moments, first_moment, is_over, symbols_of
-from eachheight.runs import configs_after, crash_results
+from eachheight.runs import configs_after
 from eachheight.states import renumbered, symbol_numbers
 
 CRASH = ("crash",)
@@ -52,58 +53,58 @@ def crash_event(task):
 
 def state_after(layer, state, ending):
     """Return the state after a step with this ending, without candidates if the step is bad."""
-    event, phase, configs = ending
-    numbers = symbol_numbers(configs)
-    candidates = _candidates_after(layer, state, event)
-    return (phase, tuple(renumbered(configs, numbers)), _settled(candidates, numbers))
+    event, phase, before = ending
+    configs, pairs = settled_configs(before)
+    return (phase, configs, _settled(_candidates_after(layer, state, event), dict(pairs)))
 
 
-def states_after(layer, state):
-    """Return the states after all steps from the state, each once, as state_after does."""
-    # Most steps share their event and the order of their symbols, all that candidates depend on.
-    by_event = {}
-    by_order = {}
-    found = {}
-    for event, phase, configs in _endings_from(layer, state):
-        numbers = symbol_numbers(configs)
-        order = (event, tuple(numbers))
-        if event not in by_event:
-            by_event[event] = _candidates_after(layer, state, event)
-        if order not in by_order:
-            by_order[order] = _settled(by_event[event], numbers)
-        found[(phase, tuple(renumbered(configs, numbers)), by_order[order])] = True
-    return list(found)
+def steps_by_state(layer, state):
+    """Return the states after all steps from the state, as state_after does, each with a step to it."""
+    followers = Followers(layer, state)
+    crashes = {(CRASH, state[1]): ("crash",)} if state[0] == "up" else {}
+    for task in tasks_from(layer, state):
+        whole, broken, program, first, _ = task
+        for path, moment in distinct_moments(layer[1], program, first):
+            crashes.setdefault((crash_event(task), moment[2]), broken + (path,))
+            if is_over(program, moment):
+                event, _, configs = whole_ending(task, moment)
+                followers.include(event, "up", settled_configs(configs), whole + (path,))
+    for (event, configs), beginning in crashes.items():
+        for left, choice in ways_to_crash(layer[1], configs, followers.symbols(event)).items():
+            followers.include(event, "down", left, beginning + (choice,))
+    return followers.steps
 
 
-def one_of_each(rows):
-    """Return all tuples with one part of each row."""
-    found = [()]
-    for row in rows:
-        found = [start + (part,) for start in found for part in row]
-    return found
+class Followers:
+    """The states that steps from a state lead to, each with one of these steps."""
+
+    def __init__(self, layer, state):
+        self.layer = layer
+        self.state = state
+        # Most steps share their event and their numbers of symbols, all that candidates depend on.
+        self.by_event = {}
+        self.by_numbers = {}
+        self.steps = {}
+
+    def include(self, event, phase, left, step):
+        """Add the state after a step with this event; `left` has the configs and numbers of symbols."""
+        configs, pairs = left
+        if (event, pairs) not in self.by_numbers:
+            self.by_numbers[(event, pairs)] = _settled(self._candidates(event), dict(pairs))
+        self.steps.setdefault((phase, configs, self.by_numbers[(event, pairs)]), step)
+
+    def symbols(self, event):
+        """Return the symbols of the candidates after the event."""
+        return symbol_numbers(self._candidates(event))
+
+    def _candidates(self, event):
+        if event not in self.by_event:
+            self.by_event[event] = _candidates_after(self.layer, self.state, event)
+        return self.by_event[event]
 
 
 def _task(whole, broken, program, arguments, configs):
     return (whole, broken, program, first_moment(program, arguments, configs), arguments)
-
-
-def _endings_from(layer, state):
-    """Return the endings of all steps from the state, each once."""
-    phase, configs, _ = state
-    lowers = layer[1]
-    crashes = {(CRASH, configs): True} if phase == "up" else {}
-    found = {}
-    for task in tasks_from(layer, state):
-        _, _, program, first, _ = task
-        for moment in distinct_moments(lowers, program, first):
-            crashes[(crash_event(task), moment[2])] = True
-            if is_over(program, moment):
-                found[whole_ending(task, moment)] = True
-    for event, before in crashes:
-        rows = [crash_results(lower, config) for lower, config in zip(lowers, before)]
-        for after in one_of_each(rows):
-            found[(event, "down", after)] = True
-    return list(found)
 
 
 def _candidates_after(layer, state, event):

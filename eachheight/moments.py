@@ -23,14 +23,37 @@ def is_over(program, moment):
     return place == UNHANDLED or program[place][0] != "call"
 
 
-def next_moments(lowers, program, moment):
-    """Return the moment behind each outcome of the call that comes next, in the order of its case."""
+def next_call(program, moment):
+    """Return (k, op, arguments) of the call that comes next."""
+    place, variables, _ = moment
+    _, k, op, inputs, _ = program[place]
+    return (k, op, symbols_of(variables, inputs))
+
+
+def next_outcomes(lowers, program, moment):
+    """Return the outcomes of the call that comes next, in the order of its case, or none at an end."""
     if is_over(program, moment):
         return []
-    place, variables, configs = moment
-    _, k, op, inputs, _ = program[place]
-    outcomes = listed_outcomes(lowers[k], configs[k], op, symbols_of(variables, inputs))
-    return [_moment_behind(program, moment, outcome) for outcome in outcomes]
+    k, op, arguments = next_call(program, moment)
+    return listed_outcomes(lowers[k], moment[2][k], op, arguments)
+
+
+def moment_behind(program, moment, outcome):
+    """Return the moment behind the call that comes next, if it has this outcome."""
+    reply, results, config = outcome
+    place, _, configs = moment
+    k = program[place][1]
+    return resumed(program, moment, reply, results, configs[:k] + (config,) + configs[k + 1:])
+
+
+def resumed(program, moment, reply, results, configs):
+    """Return the moment behind the call that comes next, if it gets this reply and leaves these configs."""
+    place, variables, _ = moment
+    for handled, outputs, target in program[place][4]:
+        # A layer below may return a reply with more or fewer results than its spec says.
+        if handled == reply and len(outputs) == len(results):
+            return _moment_from(program, target, _stored(dict(variables), outputs, results), configs)
+    return (UNHANDLED, (), configs)
 
 
 def symbols_of(variables, inputs):
@@ -46,8 +69,7 @@ def moments_by_path(lowers, program, first):
     while waiting:
         path, moment = waiting.pop()
         found.append((path, moment))
-        behind = next_moments(lowers, program, moment)
-        waiting.extend([(path + (index,), after) for index, after in enumerate(behind)])
+        waiting.extend(_longer_paths(lowers, program, path, moment))
     return found
 
 
@@ -57,51 +79,45 @@ def moment_on_path(lowers, program, first, path):
         return None
     moment = first
     for index in path:
-        behind = next_moments(lowers, program, moment)
-        if not is_integer(index, 0, len(behind) - 1):
+        outcomes = next_outcomes(lowers, program, moment)
+        if not is_integer(index, 0, len(outcomes) - 1):
             return None
-        moment = behind[index]
+        moment = moment_behind(program, moment, outcomes[index])
     return moment
 
 
 def distinct_moments(lowers, program, first):
-    """Return the moments of all paths, but only one of those from which all goes on alike."""
+    """Return (path, moment) as moments_by_path does, but only one of those from which all goes on alike."""
     # Without this, a few calls with several outcomes each would have far too many paths.
-    needed = _needed_variables(program)
+    last_reads = _last_reads(program)
     found = {}
-    waiting = [first]
+    waiting = [((), first)]
     while waiting:
-        moment = waiting.pop()
+        path, moment = waiting.pop()
         place, variables, configs = moment
-        kept = tuple([pair for pair in variables if pair[0] in needed[place]])
+        kept = tuple([pair for pair in variables if pair[0] in last_reads and last_reads[pair[0]] >= place])
         if (place, kept, configs) not in found:
-            found[(place, kept, configs)] = moment
-            waiting.extend(next_moments(lowers, program, moment))
+            found[(place, kept, configs)] = (path, moment)
+            waiting.extend(_longer_paths(lowers, program, path, moment))
     return list(found.values())
 
 
-def _needed_variables(program):
-    """Return, for each instruction, the variables that it or a later one reads."""
-    needed = []
-    read = {}
-    for instruction in reversed(program):
-        read = dict(read)
+def _longer_paths(lowers, program, path, moment):
+    """Return (path, moment) behind each outcome of the call that comes next."""
+    outcomes = next_outcomes(lowers, program, moment)
+    return [
+        (path + (index,), moment_behind(program, moment, outcome))
+        for index, outcome in enumerate(outcomes)
+    ]
+
+
+def _last_reads(program):
+    """Return, for each variable, the index of the last instruction that reads it."""
+    last = {}
+    for place, instruction in enumerate(program):
         for variable in variables_read(instruction):
-            read[variable] = True
-        needed.append(read)
-    return list(reversed(needed))
-
-
-def _moment_behind(program, moment, outcome):
-    """Return the moment behind the call that comes next, if it has this outcome."""
-    place, variables, configs = moment
-    reply, results, config = outcome
-    _, k, _, _, branches = program[place]
-    changed = configs[:k] + (config,) + configs[k + 1:]
-    for handled, outputs, target in branches:
-        if handled == reply:
-            return _moment_from(program, target, _stored(dict(variables), outputs, results), changed)
-    return (UNHANDLED, (), changed)
+            last[variable] = place
+    return last
 
 
 def _moment_from(program, place, held, configs):

@@ -1,10 +1,11 @@
 """Steps from a state, and the state after a step (points 10 and 11)."""
 
-from eachheight.endings import CRASH, crash_event, one_of_each, state_after, tasks_from, whole_ending
+from eachheight.endings import CRASH, crash_event, state_after, tasks_from, whole_ending
 from eachheight.errors import BadStep, NoSuchStep
 from eachheight.moments import is_over, moment_on_path, moments_by_path
 from eachheight.runs import listed_crashes
 from eachheight.specs import is_integer, is_tuple
+from eachheight.tuples import one_of_each
 
 
 def steps_from(layer, state):

@@ -25,6 +25,26 @@ def same_layer(spec):
     return (spec, (spec,), tuple(call_and_return(spec, op) for op, _ in spec[1]), (("up",),))
 
 
+def wheel(modes):
+    """Return a spec whose only operation leads through all modes, which a crash does not change."""
+    cases = tuple(((("ok", (), (mode + 1) % modes, ()),),) for mode in range(modes))
+    return ((0,) * modes, (("turn", 0),), cases, tuple(((mode, ()),) for mode in range(modes)))
+
+
+def wheel_layer(*counts):
+    """Return a layer that turns wheels, each by an operation of its own."""
+    names = tuple((name, 0) for name in "abcde"[:len(counts)])
+    upper = ((0,), names, (((("ok", (), 0, ()),),) * len(counts),), (((0, ()),),))
+    programs = tuple((("call", k, "turn", (), (("ok", (), 1),)), ("return", "ok", ())) for k in range(len(counts)))
+    return (upper, tuple(map(wheel, counts)), programs, (("up",),))
+
+
+def renamed(spec, end):
+    """Return the spec with another end at the names of its operations."""
+    slots, operations, cases, crashes = spec
+    return (slots, tuple((name + end, arity) for name, arity in operations), cases, crashes)
+
+
 # A cell on two cells: "put" writes both, "get" reads the first one, recovery copies it to the second.
 TWICE = (
     CELL,

@@ -85,15 +85,9 @@ def transitive(crashes):
 
 def runs(spec_, history):
     """Return the set of all runs of a history, each step of each one taken by itself."""
-    slots, operations, cases, crashes = spec_
     found = {()}
     for event in history:
-        longer = set()
-        for run in found:
-            config = run[-1] if run else (0, ())
-            for after in _after(operations, cases, crashes, config, event):
-                longer.add(run + (after,))
-        found = longer
+        found = {run + (last,) for run in found for last in after(spec_, run[-1] if run else (0, ()), event)}
     return found
 
 
@@ -101,15 +95,17 @@ def _crashed(crashes, config):
     return {(after, tuple(config[1][slot] for slot in kept)) for after, kept in crashes[config[0]]}
 
 
-def _after(operations, cases, crashes, config, event):
+def after(spec_, config, event):
+    """Return the set of the configs to which the event leads from the config."""
+    _, operations, cases, crashes = spec_
     if event == ("crash",):
         return _crashed(crashes, config)
     at = [operation[0] for operation in operations].index(event[1])
     held = config[1] + event[2]
     afters = set()
-    for reply, results, after, kept in cases[config[0]][at]:
+    for reply, results, mode, kept in cases[config[0]][at]:
         said = (reply, tuple(held[slot] for slot in results))
-        target = (after, tuple(held[slot] for slot in kept))
+        target = (mode, tuple(held[slot] for slot in kept))
         if event[0] == "cut":
             afters |= _crashed(crashes, target)
         elif said == event[3:]:

@@ -11,6 +11,7 @@ from eachheight.steps import steps_from
 from tests import reference_layers
 from tests.layer_samples import (
     ASKEW, BAD, CERTIFIED, DURABLE, GOOD, LAYERS, MOVES, TWICE, random_layers, random_state, same_layer,
+    wheel_layer,
 )
 from tests.samples import CACHE, CELL, ODD_VALUES, PING, SILENT, all_swaps, nested
 
@@ -333,16 +334,8 @@ class LimitsTest(unittest.TestCase):
     def tearDown(self):
         self.assertLess(time.monotonic() - self.started, 60)
 
-    def wheel(self, modes):
-        """Return a spec whose only operation leads through all modes, which a crash does not change."""
-        cases = tuple(((("ok", (), (mode + 1) % modes, ()),),) for mode in range(modes))
-        return ((0,) * modes, (("turn", 0),), cases, tuple(((mode, ()),) for mode in range(modes)))
-
     def test_six_hundred_states(self):
-        lowers = tuple(map(self.wheel, (6, 5, 5, 2)))
-        upper = ((0,), tuple((name, 0) for name in "abcd"), (((("ok", (), 0, ()),),) * 4,), (((0, ()),),))
-        programs = tuple((("call", k, "turn", (), (("ok", (), 1),)), ("return", "ok", ())) for k in range(4))
-        layer = (upper, lowers, programs, (UP,))
+        layer = wheel_layer(6, 5, 5, 2)
         self.assertIs(is_layer(layer), True)
         rows = list(itertools.product(*map(range, (6, 5, 5, 2))))
         states = tuple(
