@@ -32,13 +32,13 @@ class Cover:
     """
 
     def __init__(self):
-        self.candidates = {}
+        self.groups = {}
         self.known = {}
 
     def include(self, state):
         """Add a state."""
         phase, configs, candidates = state
-        self.candidates.setdefault((phase, configs), []).append(candidates)
+        self.groups.setdefault((phase, configs), []).append(candidates)
         self.known[state] = True
 
     def covers(self, state):
@@ -47,7 +47,7 @@ class Cover:
             return True
         phase, configs, candidates = state
         held = {candidate: True for candidate in candidates}
-        for fewer in self.candidates.get((phase, configs), []):
+        for fewer in self.groups.get((phase, configs), []):
             if len(fewer) <= len(held) and all([candidate in held for candidate in fewer]):
                 # What is covered can be reached again and again. It may as well cover others.
                 self.known[state] = True

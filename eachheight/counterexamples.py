@@ -104,6 +104,6 @@ class Replay:
         """Let all lower specs crash; the call of the interrupted one has told its history already."""
         lowers = list(zip(self.layer[1], self.configs, choice))
         self.configs = tuple([listed_crashes(lower, config)[index] for lower, config, index in lowers])
-        for k, history in enumerate(self.lowers):
+        for k in range(len(self.lowers)):
             if k != interrupted:
-                history.append(("crash",))
+                self.lowers[k].append(("crash",))

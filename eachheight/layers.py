@@ -1,6 +1,6 @@
 """Layers and their programs (point 8)."""
 
-from eachheight.specs import RESULT_LIMIT, is_ascending, is_integer, is_name, is_spec, is_tuple
+from eachheight.specs import RESULT_LIMIT, is_any_integer, is_ascending, is_integer, is_name, is_spec, is_tuple
 
 
 def is_layer(thing):
@@ -122,8 +122,7 @@ def _are_variables(thing):
 
 
 def _is_variable(thing):
-    # No is_integer: variables have no greatest number.
-    return isinstance(thing, int) and not isinstance(thing, bool) and thing >= 0
+    return is_any_integer(thing) and thing >= 0
 
 
 def _reads_what_is_set(program, arity):

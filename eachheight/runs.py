@@ -1,6 +1,6 @@
 """Configs of a spec and runs of histories (points 6 and 7)."""
 
-from eachheight.specs import is_integer, is_tuple, is_value, operation_index
+from eachheight.specs import are_values, is_integer, is_tuple, operation_index
 
 START = (0, ())
 
@@ -74,7 +74,7 @@ def is_config(spec, thing):
     if not is_tuple(thing, 2) or not is_integer(thing[0], 0, len(slots) - 1):
         return False
     mode, values = thing
-    return is_tuple(values, slots[mode]) and all([is_value(part) for part in values])
+    return are_values(values, slots[mode])
 
 
 def configs_after(spec, configs, event):

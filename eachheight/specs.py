@@ -37,14 +37,24 @@ def is_spec(thing):
     )
 
 
+def are_values(thing, count):
+    """Return whether a value is a tuple of this many values of slots, arguments or results."""
+    return is_tuple(thing, count) and all([is_value(part) for part in thing])
+
+
 def operation_index(spec, op):
     """Return which operation of the spec has this name."""
     return [operation[0] for operation in spec[1]].index(op)
 
 
 def is_integer(thing, low, high):
-    """Return whether a value is an integer, no bool, from low to high."""
-    return isinstance(thing, int) and not isinstance(thing, bool) and low <= thing <= high
+    """Return whether a value is an integer from low to high."""
+    return is_any_integer(thing) and low <= thing <= high
+
+
+def is_any_integer(thing):
+    """Return whether a value is an integer. True and False are equal to integers, but are none."""
+    return isinstance(thing, int) and not isinstance(thing, bool)
 
 
 def is_tuple(thing, length):

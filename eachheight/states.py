@@ -1,7 +1,7 @@
 """States of a layer and their symbols (point 9)."""
 
 from eachheight.limits import LOST
-from eachheight.specs import is_ascending, is_integer, is_tuple
+from eachheight.specs import is_any_integer, is_ascending, is_integer, is_tuple
 
 
 def initial_state(layer):
@@ -62,8 +62,4 @@ def _is_config(thing, spec):
     if not is_tuple(thing, 2) or not is_integer(thing[0], 0, len(slots) - 1):
         return False
     mode, symbols = thing
-    return is_tuple(symbols, slots[mode]) and all([_is_symbol(part) for part in symbols])
-
-
-def _is_symbol(thing):
-    return isinstance(thing, int) and not isinstance(thing, bool)
+    return is_tuple(symbols, slots[mode]) and all([is_any_integer(part) for part in symbols])

@@ -19,22 +19,31 @@ def is_tree(thing):
 def tree_nodes(tree):
     """Return all nodes of the tree, ascending."""
     nodes = [()]
-    for k, child in enumerate(children_of(tree)):
+    for k, child in enumerate(_children(tree)):
         nodes.extend([(k,) + node for node in tree_nodes(child)])
     return tuple(nodes)
 
 
 def spec_at(tree, node):
     """Return the spec of a node of the tree."""
-    part = tree
-    for k in node:
-        part = part[2][k]
+    part = part_at(tree, node)
     return part[1] if part[0] == "base" else part[1][0]
 
 
-def children_of(tree):
-    """Return the trees below the root, none below a base spec."""
-    return () if tree[0] == "base" else tree[2]
+def part_at(tree, node):
+    """Return the tree whose root is this node."""
+    part = tree
+    for k in node:
+        part = part[2][k]
+    return part
+
+
+def nodes_from_below(tree):
+    """Return all nodes of the tree: what is below a node in order, then the node."""
+    nodes = []
+    for k, child in enumerate(_children(tree)):
+        nodes.extend([(k,) + node for node in nodes_from_below(child)])
+    return nodes + [()]
 
 
 def first_mismatch(layer, children):
@@ -43,3 +52,7 @@ def first_mismatch(layer, children):
         if spec_at(child, ()) != lower:
             return k
     return None
+
+
+def _children(tree):
+    return () if tree[0] == "base" else tree[2]

@@ -14,7 +14,7 @@ from eachheight.runs import find_run
 from eachheight.steps import steps_from
 from tests import reference_layers, reference_replay
 from tests.layer_samples import (
-    ASKEW, BAD, CERTIFIED, DURABLE, FIVE, GOOD, LAYERS, MOVES, TWICE, random_layers, renamed, same_layer, wheel_layer,
+    ASKEW, BAD, CERTIFIED, DURABLE, FIVE, GOOD, MOVES, TWICE, random_layers, renamed, same_layer, wheel_layer,
 )
 from tests.samples import CACHE, CELL, PAIR, PING, SILENT
 

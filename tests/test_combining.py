@@ -135,7 +135,8 @@ class ProductTest(CombiningTestCase):
         configs = [(mode, tuple(next(numbers) for _ in range(spec[0][mode]))) for spec, mode in zip(specs, row)]
 
         def joined(parts):
-            return (rows.index(tuple(mode for mode, _ in parts)), tuple(value for _, values in parts for value in values))
+            mode = rows.index(tuple(mode for mode, _ in parts))
+            return (mode, tuple(value for _, values in parts for value in values))
 
         whole = joined(configs)
         for op, arity in upper[1]:
@@ -354,7 +355,8 @@ class ComposeTest(ComposeTestCase):
         # First what the inner layers repair, then what the outer one does, on top of them.
         parts = reference_trees.nodes(("layer", whole, (("base", CELL),) * 4))
         told, _ = reference_trees.told(
-            reference_trees.running(parts, (), whole[3], {}), lambda _, op, arguments: ("is", (9,)) if op == "get" else ("ok", ())
+            reference_trees.running(parts, (), whole[3], {}),
+            lambda _, op, arguments: ("is", (9,)) if op == "get" else ("ok", ()),
         )
         calls = [(event[1], event[2]) for event in told if event[0] == "base"]
         self.assertEqual(calls, [
@@ -371,7 +373,8 @@ class ComposeTest(ComposeTestCase):
         self.is_composed(two, (four, TWICE, identity_layer(CELL)), rounds=20)
         # In whatever order they are composed, it is the same in the end.
         low = compose_layers(compose_layers(TWICE, (TWICE, TWICE)), (GOOD_CELL, TWICE, TWICE, GOOD_CELL))
-        high = compose_layers(TWICE, (compose_layers(TWICE, (GOOD_CELL, TWICE)), compose_layers(TWICE, (TWICE, GOOD_CELL))))
+        sides = (compose_layers(TWICE, (GOOD_CELL, TWICE)), compose_layers(TWICE, (TWICE, GOOD_CELL)))
+        high = compose_layers(TWICE, sides)
         self.assertEqual(low[:2], high[:2])
         self.assertIs(self.has_certificate(low), True)
 
@@ -415,11 +418,13 @@ class ComposeTest(ComposeTestCase):
         self.assertIs(self.has_certificate(self.is_composed(whole, (layer,))), True)
         # The same value as both arguments, and returned twice.
         twin = (spec, (CELL,), (
-            (("call", 0, "get", (), (("is", (4,), 1), ("none", (), 2))), ("return", "are", (4, 4)), ("return", "none", ())),
+            (("call", 0, "get", (), (("is", (4,), 1), ("none", (), 2))), ("return", "are", (4, 4)),
+            ("return", "none", ())),
             (("call", 0, "put", (0,), (("ok", (), 1),)), ("return", "ok", ())),
         ), (UP,))
         copied = (CELL, (spec,), (
-            (("call", 0, "both", (), (("are", (8, 9), 1), ("none", (), 2))), ("return", "is", (9,)), ("return", "none", ())),
+            (("call", 0, "both", (), (("are", (8, 9), 1), ("none", (), 2))), ("return", "is", (9,)),
+            ("return", "none", ())),
             (("call", 0, "set", (0, 0), (("ok", (), 1),)), ("return", "ok", ())),
         ), (UP,))
         self.assertIs(is_layer(twin), True)
@@ -428,8 +433,10 @@ class ComposeTest(ComposeTestCase):
 
     def test_large_variables(self):
         huge = 10 ** 39
-        get = (("call", 0, "get", (), (("is", (huge,), 1), ("none", (), 2))), ("return", "is", (huge,)), ("return", "none", ()))
-        put = (("move", (huge, huge - 1), (0, 0)), ("call", 0, "put", (huge - 1,), (("ok", (), 2),)), ("return", "ok", ()))
+        get = (("call", 0, "get", (), (("is", (huge,), 1), ("none", (), 2))), ("return", "is", (huge,)),
+            ("return", "none", ()))
+        put = (("move", (huge, huge - 1), (0, 0)), ("call", 0, "put", (huge - 1,), (("ok", (), 2),)),
+            ("return", "ok", ()))
         layer = (CELL, (CELL,), (get, put), (UP,))
         self.assertIs(self.has_certificate(layer), True)
         whole = layer
@@ -543,7 +550,8 @@ class PlacesThatAreNeverReachedTest(ComposeTestCase):
 
     def test_a_call_without_branches_in_the_inner_layer(self):
         program = (
-            ("call", 0, "ping", (), (("odd", (3,), 1), ("ok", (), 2))), ("call", 0, "set", (3,), ()), ("return", "ok", ()),
+            ("call", 0, "ping", (), (("odd", (3,), 1), ("ok", (), 2))), ("call", 0, "set", (3,), ()),
+            ("return", "ok", ()),
         )
         layer = (PING, (self.ODD,), (program,), (UP,))
         self.assertIs(self.has_certificate(layer), True)

@@ -124,7 +124,8 @@ class CounterexampleTest(CounterexampleTestCase):
                 self.wrong(layer, steps, steps[:1])
 
     def test_unhandled_replies(self):
-        layer = (PING, (PING,), ((("call", 0, "ping", (), ()), ("return", "ok", ())),), (("call", 0, "ping", (), ()), UP))
+        layer = (PING, (PING,), ((("call", 0, "ping", (), ()), ("return", "ok", ())),),
+            (("call", 0, "ping", (), ()), UP))
         self.good(layer, (("done", "ping", (0,)),), (("crash", (0,)), ("recover", (0,))))
         # An unhandled reply ahead of a crash is not bad.
         self.wrong(layer, (("cut", "ping", (0,), (0,)),), (("crash", (0,)), ("recrash", (0,), (0,))))
@@ -315,7 +316,8 @@ class ReplayTest(ReplayTestCase):
             ((("return", "none", ()),), (("call", 0, "put", (0,), ()), ("return", "ok", ()))), (UP,),
         )
         self.assertIs(is_layer(layer), True)
-        steps = (("cut", "put", (0,), (0,)), ("recover", ()), ("cut", "put", (), (0,)), ("recover", ()), ("done", "put", (0,)))
+        steps = (("cut", "put", (0,), (0,)), ("recover", ()), ("cut", "put", (), (0,)), ("recover", ()),
+            ("done", "put", (0,)))
         self.shows(
             layer, steps, (5, 6, 7), (("cut", "put", (5,)), ("cut", "put", (6,))),
             (("cut", "put", (5,)), CRASH, ("done", "put", (7,), "ok", ())),
@@ -365,24 +367,22 @@ class ReplayTest(ReplayTestCase):
                 done += 1
                 if state is not None:
                     self.assertTrue(runs)
-                elif steps[-1][0] == "done" and upper[-1:] and upper[-1][:2] == steps[-1][:2] and upper[-1][0] == "done":
-                    bad += self.is_wrong(layer, steps, runs)
+                elif steps[-1][0] == "done" and self.ends_with_a_return(layer, steps):
+                    self.assertFalse(runs)
+                    bad += 1
         self.assertGreater(bad, 100)
         self.assertGreater(done, 500)
 
-    def is_wrong(self, layer, steps, runs):
+    def ends_with_a_return(self, layer, steps):
         """Return whether the last reply is handled, so that no candidate was left."""
         state = reference_layers.first_state(layer)
         for step in steps[:-1]:
             state = reference_layers.steps(layer, state)[step]
-        arity = dict(layer[0][1])[steps[-1][1]]
+        _, op, path = steps[-1]
         new = len({symbol for _, symbols in state[1] for symbol in symbols})
-        program = layer[2][[name for name, _ in layer[0][1]].index(steps[-1][1])]
-        arguments = tuple(range(new, new + arity))
-        how, _, _ = reference_layers.execute(layer, program, arguments, state[1], steps[-1][2])
-        if how == "return":
-            self.assertFalse(runs)
-        return how == "return"
+        arguments = tuple(range(new, new + dict(layer[0][1])[op]))
+        program = layer[2][[name for name, _ in layer[0][1]].index(op)]
+        return reference_layers.execute(layer, program, arguments, state[1], path)[0] == "return"
 
 
 class LimitsTest(CounterexampleTestCase):
@@ -393,7 +393,8 @@ class LimitsTest(CounterexampleTestCase):
         self.assertLess(time.monotonic() - self.started, 30)
 
     def test_forty_steps(self):
-        steps = ((("done", "put", (0, 0)), ("cut", "put", (0,), (0, 0)), ("recrash", (), (0, 0)), ("recover", (0, 0))) * 10)
+        steps = ((("done", "put", (0, 0)), ("cut", "put", (0,), (0, 0)), ("recrash", (), (0, 0)),
+            ("recover", (0, 0))) * 10)
         values = tuple(range(100, 140))
         self.wrong(TWICE, steps)
         upper, lowers = replay(TWICE, steps, values)
@@ -402,7 +403,8 @@ class LimitsTest(CounterexampleTestCase):
         self.assertEqual([len(history) for history in lowers], [50, 40])
         self.assertEqual(upper[-2:], (("done", "put", (118,), "ok", ()), ("cut", "put", (119,))))
         layer = TWICE[:2] + ((TWICE[2][0][:2] + (("return", "no", ()),), TWICE[2][1]), TWICE[3])
-        steps = (("crash", (0, 0)), ("recover", (0,))) * 19 + (("crash", (0, 0)), ("recover", (0,)), ("done", "get", (0,)))
+        steps = (("crash", (0, 0)), ("recover", (0,))) * 19 + (("crash", (0, 0)), ("recover", (0,)),
+            ("done", "get", (0,)))
         self.assertEqual(len(steps), 41)
         self.good(layer, steps, steps[2:])
         self.wrong(layer, steps[:-1], steps + steps[-1:])

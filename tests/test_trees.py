@@ -205,7 +205,8 @@ class LimitsTest(TreeTestCase):
         tree = ("layer", layer, (low,) * 12)
         self.assertIs(is_tree(tree), True)
         self.assertEqual(len(tree_nodes(tree)), 157)
-        self.assertIs(is_tree(("layer", layer, (low,) * 11 + (("layer", layer, (("base", SILENT),) * 11 + (BASE,)),))), False)
+        self.assertIs(is_tree(("layer", layer, (low,) * 11 + (("layer", layer, (("base", SILENT),) * 11 + (BASE,)),))),
+            False)
         self.assertLess(time.monotonic() - started, 30)
 
     def test_large_values(self):

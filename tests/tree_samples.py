@@ -1,6 +1,6 @@
 """Trees that several tests use."""
 
-from eachheight.combining import product_layer
+from eachheight.combining import identity_layer, product_layer
 from tests.layer_samples import GOOD, TWICE, renamed, same_layer
 from tests.samples import CACHE, CELL, PAIR, PING, SILENT
 
@@ -30,3 +30,16 @@ MIXED = ("layer", product_layer((CELL, PAIR_B, PING)), (LOW, on_bases(same_layer
 TREES = (
     TREE, BASE, ("base", SILENT), LOW, HIGH, WIDE, MIXED, on_bases(same_layer(CACHE)), on_bases(same_layer(SILENT)),
 )
+
+
+def random_tree(source, pool, height, root=None):
+    """Return a tree of layers of the pool (and identity layers), with this many levels of layers at most."""
+    layer = root or source.choice(pool)
+    children = []
+    for lower in layer[1]:
+        fits = [other for other in pool if other[0] == lower] + [identity_layer(lower)]
+        if height > 1 and source.randrange(3):
+            children.append(random_tree(source, pool, height - 1, source.choice(fits)))
+        else:
+            children.append(("base", lower))
+    return ("layer", layer, tuple(children))
