@@ -47,10 +47,25 @@ STATEMENTS = (
 )
 BARRED = (ast.Global, ast.AsyncFunctionDef, ast.Await, ast.AsyncFor, ast.AsyncWith, ast.Import, ast.Div)
 
+UNUSED_ATTRIBUTES = set(
+    "items keys values pop update append clear extend insert remove reverse setdefault sort args encode decode hex "
+    "fromhex format".split()
+)
+ITERATED = ("zip", "enumerate", "reversed", "range", "map", "items", "keys", "values")
+ITERATING = ("list", "tuple", "dict", "sorted", "sum", "any", "all", "enumerate", "zip", "min", "max")
+CHANGING = ("append", "extend", "insert", "pop", "remove", "clear", "update", "setdefault", "reverse")
+
 
 def nodes(*kinds):
     """Return (file, node) for all nodes of these kinds."""
     return [(name, node) for name, tree in TREES.items() for node in ast.walk(tree) if isinstance(node, kinds)]
+
+
+def called(node):
+    """Return the name of the function or method that a call calls, or None."""
+    if not isinstance(node, ast.Call):
+        return None
+    return node.func.id if isinstance(node.func, ast.Name) else getattr(node.func, "attr", None)
 
 
 def bound_names():
@@ -165,6 +180,48 @@ class LanguageTest(unittest.TestCase):
         own |= {node.attr for _, node in nodes(ast.Attribute) if isinstance(node.ctx, ast.Store)}
         for name, node in nodes(ast.Attribute):
             self.assertIn(node.attr, METHODS | own | {"__init__"}, name)
+
+    def test_no_name_is_a_method_and_an_attribute(self):
+        methods = {
+            part.name for _, node in nodes(ast.ClassDef) for part in node.body if isinstance(part, ast.FunctionDef)
+        }
+        stored = {node.attr for _, node in nodes(ast.Attribute) if isinstance(node.ctx, ast.Store)}
+        self.assertEqual(methods & stored, set())
+        self.assertEqual(stored & UNUSED_ATTRIBUTES, set())
+
+    def test_no_local_name_is_that_of_an_import_or_a_class(self):
+        for name, tree in TREES.items():
+            above = {alias.name for node in tree.body if isinstance(node, ast.ImportFrom) for alias in node.names}
+            above |= {node.name for node in tree.body if isinstance(node, ast.ClassDef)}
+            for function in [node for node in ast.walk(tree) if isinstance(node, ast.FunctionDef)]:
+                bound = {node.arg for node in ast.walk(function) if isinstance(node, ast.arg)}
+                bound |= {
+                    node.id for node in ast.walk(function)
+                    if isinstance(node, ast.Name) and isinstance(node.ctx, ast.Store)
+                }
+                self.assertEqual(bound & above, set(), (name, function.name))
+
+    def test_iterated_at_once(self):
+        for name, tree in TREES.items():
+            above = {part: node for node in ast.walk(tree) for part in ast.iter_child_nodes(node)}
+            for node in ast.walk(tree):
+                if isinstance(node, ast.Call) and called(node) in ITERATED:
+                    outer = above[node]
+                    at_once = isinstance(outer, (ast.For, ast.comprehension)) and outer.iter is node
+                    self.assertTrue(at_once or called(outer) in ITERATING, (name, node.lineno))
+                if isinstance(node, ast.Call) and called(node) == "set":
+                    self.assertIn(called(above[node]), ("sorted", "len"), (name, node.lineno))
+
+    def test_a_loop_does_not_change_what_it_iterates_over(self):
+        for name, node in nodes(ast.For):
+            over = {ast.unparse(part) for part in ast.walk(node.iter) if isinstance(part, (ast.Name, ast.Attribute))}
+            if called(node.iter) == "list":
+                continue
+            for part in [part for row in node.body for part in ast.walk(row)]:
+                if isinstance(part, ast.Call) and called(part) in CHANGING:
+                    self.assertNotIn(ast.unparse(part.func.value), over, (name, part.lineno))
+                if isinstance(part, ast.Subscript) and isinstance(part.ctx, ast.Store):
+                    self.assertNotIn(ast.unparse(part.value), over, (name, part.lineno))
 
     def test_words(self):
         docs = [ast.get_docstring(node, clean=False) for _, node in nodes(ast.Module, ast.FunctionDef, ast.ClassDef)]

@@ -476,20 +476,22 @@ class LimitsTest(SwapTestCase):
             self.assertIsNone(system.swap_layer((), layer, certificate))
         self.assertLess(time.monotonic() - started, 30)
 
-    def test_six_hundred_states(self):
+    def test_many_states(self):
         started = time.monotonic()
-        layer = product_layer(tuple(renamed(CELL, end) for end in "ab"))
+        layer = product_layer((renamed(CELL, "a"), renamed(CACHE, "b")))
         states, bad = reference_layers.reachable(layer, 600)
         self.assertFalse(bad)
-        self.assertGreater(len(states), 60)
-        system = System(on_bases(layer))
-        for number in range(13):
-            for end in "ab":
-                system.schedule_crash(1)
-                system.call("put" + end, (number,))
-                system.recover()
-        self.assertEqual(len(system.candidates(())), 196)
-        self.assertIsNone(system.swap_layer((), layer, states))
+        self.assertEqual(len(states), 570)
+        for rounds in (2, 3, 5):
+            system = System(on_bases(layer))
+            for number in range(rounds):
+                for end in "ab":
+                    system.schedule_crash(1)
+                    self.assertIsNone(system.call("put" + end, (number,)))
+                    system.recover()
+            self.assertGreaterEqual(len(system.candidates((1,))), 2 * rounds)
+            self.assertIsNone(system.swap_layer((), layer, states))
+        self.assertEqual(len(system.candidates(())), 96)
         self.assertLess(time.monotonic() - started, 30)
 
     def test_a_large_tree(self):

@@ -770,5 +770,5 @@ class LimitsTest(SystemTestCase):
             model.schedule_crash(1)
             self.call_both(system, model, "set", (number, number + 1))
             self.recover_both(system, model)
-        self.assertGreater(len(system.candidates(())), 100)
+        self.assertGreater(len(system.candidates(())), 200)
         self.has_candidates_like(system, model)
