@@ -15,8 +15,10 @@ def certificate_holds(layer, thing):
     for state in sorted(thing, key=_candidate_count):
         cover.include(state)
     for state in thing:
-        # A bad step leaves no candidate, so no state covers what it leads to.
-        if not all([cover.covers(after) for after in steps_by_state(layer, state)]):
+        # A bad step leaves no candidate, so no state covers what it leads to. And nothing covers
+        # more different configs than there are states.
+        steps = steps_by_state(layer, state, len(thing))
+        if steps is None or not all([cover.covers(after) for after in steps]):
             return False
     return True
 

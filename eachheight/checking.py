@@ -18,7 +18,11 @@ def check_layer(layer, *, max_states=MAX_STATES):
     while at < len(found):
         state = found[at]
         at += 1
-        for after, step in steps_by_state(layer, state).items():
+        steps = steps_by_state(layer, state, max_states)
+        # Steps that end with a crash are not bad.
+        if steps is None:
+            raise TooManyStates(max_states)
+        for after, step in steps.items():
             if not after[2]:
                 return ("invalid", _steps_to(origins, state) + (step,))
             # What is bad behind a state is bad behind one that covers it, too, so that one is enough.

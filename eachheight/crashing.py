@@ -14,8 +14,11 @@ def settled_configs(configs):
     return (tuple(renumbered(configs, numbers)), tuple(sorted(numbers.items())))
 
 
-def ways_to_crash(lowers, configs, wanted):
-    """Return all that a crash may leave, without the symbols that are not wanted, each with a crash choice."""
+def ways_to_crash(lowers, configs, wanted, limit):
+    """Return all that a crash may leave, without the symbols that are not wanted, each with a crash choice.
+
+    Return None if these are more than `limit` different configs.
+    """
     # There may be far too many choices. So the specs crash one by one, and what differs only in
     # symbols that are not wanted, nor held by a spec that comes later, is followed once.
     found = {((), 0, ()): ()}
@@ -28,6 +31,9 @@ def ways_to_crash(lowers, configs, wanted):
             for index, result in enumerate(results):
                 longer.setdefault(_with_next(left, result, used), choice + (index,))
         found = longer
+        # Whatever comes behind them, different configs stay different.
+        if len(set([row for row, _, _ in found])) > limit:
+            return None
     return {(row, pairs): choice for (row, _, pairs), choice in found.items()}
 
 

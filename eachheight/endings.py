@@ -58,8 +58,11 @@ def state_after(layer, state, ending):
     return (phase, configs, _settled(_candidates_after(layer, state, event), dict(pairs)))
 
 
-def steps_by_state(layer, state):
-    """Return the states after all steps from the state, as state_after does, each with a step to it."""
+def steps_by_state(layer, state, limit):
+    """Return the states after all steps from the state, as state_after does, each with a step to it.
+
+    Return None if there are more than `limit` of them with different configs, after one crash alone.
+    """
     followers = Followers(layer, state)
     crashes = {(CRASH, state[1]): ("crash",)} if state[0] == "up" else {}
     for task in tasks_from(layer, state):
@@ -70,7 +73,10 @@ def steps_by_state(layer, state):
                 event, _, configs = whole_ending(task, moment)
                 followers.include(event, "up", settled_configs(configs), whole + (path,))
     for (event, configs), beginning in crashes.items():
-        for left, choice in ways_to_crash(layer[1], configs, followers.symbols(event)).items():
+        ways = ways_to_crash(layer[1], configs, followers.symbols(event), limit)
+        if ways is None:
+            return None
+        for left, choice in ways.items():
             followers.include(event, "down", left, beginning + (choice,))
     return followers.steps
 

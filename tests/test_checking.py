@@ -5,12 +5,13 @@ import unittest
 from eachheight import checking
 from eachheight.certificates import certificate_holds
 from eachheight.checking import check_layer
-from eachheight.combining import product_layer
+from eachheight.combining import compose_layers, product_layer
 from eachheight.counterexamples import counterexample_holds, replay
 from eachheight.errors import TooManyStates
 from eachheight.layers import is_layer
 from eachheight.limits import MAX_STATES
 from eachheight.runs import find_run
+from eachheight.states import is_state
 from eachheight.steps import steps_from
 from tests import reference_layers, reference_replay
 from tests.layer_samples import (
@@ -242,6 +243,72 @@ class LimitsTest(CheckTestCase):
         self.assertIs(certificate_holds(layer, thing), True)
         self.assertGreater(max(len(state[2]) for state in thing), 30)
         self.assertGreater(max(len(steps_from(layer, state)) for state in thing), 380)
+
+    def test_many_crash_results(self):
+        # A crash leads each lower spec to any of its modes, so all combinations come from one crash.
+        entry = tuple((mode, ()) for mode in range(4))
+        lower = ((0,) * 4, (), ((),) * 4, (entry,) * 4)
+        layer = (SILENT, (lower,) * 3, (), (UP,))
+        self.assertIs(is_layer(layer), True)
+        for maximum in (128, 129, 300):
+            self.assertEqual(self.checked(layer, maximum), "valid")
+        for maximum in (1, 63, 64, 65, 127):
+            self.too_many(layer, maximum)
+        found = check_layer(layer)[1]
+        self.assertEqual(len(found), 128)
+        for at in range(0, 128, 9):
+            self.assertIs(certificate_holds(layer, found[:at] + found[at + 1:]), False)
+
+    def test_far_too_many_crash_results(self):
+        # A spec that keeps two values, of which a crash may keep either one, or lose both.
+        pair = (
+            (0, 2), (("get", 0), ("put", 1)),
+            (
+                ((("none", (), 0, ()),), (("ok", (), 1, (0, 0)),)),
+                ((("is", (0,), 1, (0, 1)), ("is", (1,), 1, (0, 1))), (("ok", (), 1, (1, 2)),)),
+            ),
+            (((0, ()),), ((0, ()), (1, (0, 0)), (1, (0, 1)), (1, (1, 1)))),
+        )
+        put = tuple(("call", k, "put", (0,), (("ok", (), k + 1),)) for k in range(5)) + (("return", "ok", ()),)
+        layer = (pair, (pair,) * 5, (TWICE[2][0], put), (UP,))
+        self.assertIs(is_layer(layer), True)
+        whole = compose_layers(layer, (layer,) * 5)
+        self.too_many(whole, 300)
+        first = reference_layers.first_state(whole)
+        full = ("up", tuple((1, (k, k + 1)) for k in range(0, 50, 2)), ((1, (0, 1)),))
+        self.assertIs(is_state(whole, full), True)
+        self.assertIs(certificate_holds(whole, (("down",) + first[1:], first, full)), False)
+
+    def test_choices_that_come_to_the_same(self):
+        # Each of many lower specs keeps one of its two values, and whatever is left looks alike.
+        either = ((0, 2, 1), (), ((), (), ()), (((0, ()),), ((2, (0,)), (2, (1,))), ((2, (0,)),)))
+        layer = (SILENT, (either,) * 25, (), (UP,))
+        self.assertIs(is_layer(layer), True)
+        self.assertEqual(self.checked(layer), "valid")
+        full = tuple((1, (2 * k, 2 * k + 1)) for k in range(25))
+        left = tuple((2, (k,)) for k in range(25))
+        states = tuple(
+            (phase, configs, EMPTY) for phase in ("down", "up") for configs in (EMPTY * 25, full, left)
+        )
+        self.assertIs(certificate_holds(layer, states), True)
+        self.assertIs(certificate_holds(layer, states[:1] + states[2:4] + states[5:]), True)
+        self.assertIs(certificate_holds(layer, states[:2] + states[3:]), False)
+        self.assertIs(certificate_holds(layer, states[:5]), False)
+
+    def test_more_ways_to_crash_than_states(self):
+        # What a crash leaves differs only in what the candidates have lost, and one candidate loses nothing.
+        either = ((0, 2, 1), (), ((), (), ()), (((0, ()),), ((2, (0,)), (2, (1,))), ((2, (0,)),)))
+        upper = ((0, 3), (), ((), ()), (((0, ()),), ((1, (0, 1, 2)),)))
+        layer = (upper, (either,) * 3, (), (UP,))
+        self.assertIs(is_layer(layer), True)
+        full = ("up", ((1, (0, 1)), (1, (2, 3)), (1, (4, 5))), ((0, ()), (1, (0, 2, 4))))
+        left = tuple((2, (k,)) for k in range(3))
+        states = (
+            ("down", EMPTY * 3, EMPTY), ("down", left, EMPTY), ("up", EMPTY * 3, EMPTY), full, ("up", left, EMPTY),
+        )
+        self.assertIs(reference_layers.certificate(layer, states), True)
+        self.assertIs(certificate_holds(layer, states), True)
+        self.assertIs(certificate_holds(layer, states[:1] + states[2:]), False)
 
     def test_large_specs(self):
         # Three values, four crash results, three outcomes: many states, found or given up in time.
